@@ -1,0 +1,1 @@
+"""Sensors that stick: where props can be, and which sensors can be at fault."""
