@@ -1,13 +1,14 @@
 """The calls by which a line is asked what can be."""
 
-from stickysensors.courses import has_course, least_course, members, met, passed
+from stickysensors.courses import has_course, is_course, least_course, members, met, passed
 from stickysensors.faults import FINE, LATENESSES, STUCK, positions_told, sticking_ticks
-from stickysensors.line import NOT_SO, OUT_OF_RANGE, WRONG_TIME
-from stickysensors.ways import faults_in, fewest_of_each, ways_left
+from stickysensors.faults import can_have, how_many_faults, is_fault
+from stickysensors.line import GREATEST_SIZE, NOT_SO, OUT_OF_RANGE, WRONG_TIME
+from stickysensors.ways import allowed_by, faults_in, fewest_of_each, ways_left, ways_left_of_each
 
 
 def where(line, number, tick):
-    if not (0 <= number < len(line.props) and 0 <= tick <= line.tick):
+    if not (line.has_prop(number) and 0 <= tick <= line.tick):
         return [OUT_OF_RANGE]
     if not line.begun:
         return [WRONG_TIME]
@@ -23,7 +24,7 @@ def faults_left(line, sensor):
 
 
 def blame(line, number):
-    if not 0 <= number < len(line.sensors):
+    if not line.has_sensor(number):
         return [OUT_OF_RANGE]
     if not line.begun:
         return [WRONG_TIME]
@@ -32,7 +33,7 @@ def blame(line, number):
 
 
 def since(line, number):
-    if not 0 <= number < len(line.sensors):
+    if not line.has_sensor(number):
         return [OUT_OF_RANGE]
     if not line.begun:
         return [WRONG_TIME]
@@ -58,7 +59,7 @@ def fewest(line):
 
 
 def explain(line, number):
-    if not 0 <= number < len(line.props):
+    if not line.has_prop(number):
         return [OUT_OF_RANGE]
     if not line.begun:
         return [WRONG_TIME]
@@ -68,3 +69,47 @@ def explain(line, number):
     # The first of those that are equal is taken.
     way = min(ways, key=faults_in)
     return [0] + way.faults + least_course(way.allowed, line.props[number])
+
+
+# Whether all that the prop's sensors read goes with these faults and this course.
+def goes_with_all(prop, faults, course):
+    if len(faults) != len(prop.sensors):
+        return False
+    if not all([can_have(sensor, fault) for sensor, fault in zip(prop.sensors, faults)]):
+        return False
+    return is_course(course, allowed_by(prop, faults), prop)
+
+
+def check(line, number, faults, course):
+    in_range = all([is_fault(fault) for fault in faults]) and all([0 <= place < GREATEST_SIZE for place in course])
+    if not (in_range and line.has_prop(number)):
+        return [OUT_OF_RANGE]
+    if not line.begun:
+        return [WRONG_TIME]
+    goes = goes_with_all(line.props[number], faults, course)
+    return [0, 1 if goes else 0, how_many_faults(faults)]
+
+
+def sure(line):
+    if not line.begun:
+        return [WRONG_TIME]
+    left = ways_left_of_each(line)
+    if not left:
+        return [NOT_SO]
+    answer = [0]
+    for number, sensor in enumerate(line.sensors):
+        if FINE not in [way.faults[sensor.place] for way in left[sensor.prop]]:
+            answer.append(number)
+    return answer
+
+
+def told_ways(line, number):
+    if not line.has_prop(number):
+        return [OUT_OF_RANGE]
+    if not line.begun:
+        return [WRONG_TIME]
+    left = ways_left(line, number)
+    answer = [0, len(left)]
+    for way in left:
+        answer.extend(way.faults)
+    return answer

@@ -52,6 +52,13 @@ def has_course(allowed, prop):
     return reached(allowed, prop)[-1] != 0
 
 
+# Whether the row of positions is a course, at an allowed position at each tick.
+def is_course(row, allowed, prop):
+    if len(row) != len(allowed):
+        return False
+    return has_course(met(allowed, [1 << place for place in row]), prop)
+
+
 # For each tick the positions that some whole course has there, if there is a course.
 def passed(allowed, prop):
     found = reached(allowed, prop)

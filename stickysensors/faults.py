@@ -4,11 +4,20 @@
 """
 
 from stickysensors.courses import agreeing, everywhere
-from stickysensors.line import NOTHING
+from stickysensors.line import LAST_TICK, NOTHING
 
 FINE = 0
 STUCK = 100
 LATENESSES = (1, 2, 3)
+
+
+def is_fault(number):
+    return number == FINE or number in LATENESSES or STUCK <= number <= STUCK + LAST_TICK
+
+
+# A row of faults tells of each sensor; those that are fine have none.
+def how_many_faults(faults):
+    return len([fault for fault in faults if fault != FINE])
 
 
 # Whether these readings, those that are none left out, are one number, or there are none.
@@ -20,6 +29,11 @@ def one_number(readings):
 def sticking_ticks(sensor):
     readings = sensor.readings
     return [tick for tick in range(sensor.first, len(readings)) if one_number(readings[tick:])]
+
+
+# Whether it can have the fault by itself, whatever the courses are.
+def can_have(sensor, fault):
+    return fault < STUCK or fault - STUCK in sticking_ticks(sensor)
 
 
 # What the sensor can be in a way, in the order of the ways.

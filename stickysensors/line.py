@@ -7,6 +7,10 @@ LOOSE = -2
 # Stands among a sensor's readings where nothing was read.
 NOTHING = -1
 
+GREATEST_SIZE = 8
+GREATEST_READING = 1000
+LAST_TICK = 24
+
 # The refusals.
 OUT_OF_RANGE = -1
 WRONG_TIME = -3
@@ -43,3 +47,9 @@ class Line:
         self.sensors = []
         self.begun = False
         self.tick = 0
+
+    def has_prop(self, number):
+        return 0 <= number < len(self.props)
+
+    def has_sensor(self, number):
+        return 0 <= number < len(self.sensors)

@@ -1,14 +1,12 @@
 """The calls by which a line is told what there is and what was read."""
 
-from stickysensors.line import LOOSE, NO_PLACE, NOT_SO, NOTHING, OUT_OF_RANGE, Prop, Sensor, WRONG_TIME
+from stickysensors.line import GREATEST_READING, GREATEST_SIZE, LAST_TICK, LOOSE, NOTHING, Prop, Sensor
+from stickysensors.line import NO_PLACE, NOT_SO, OUT_OF_RANGE, WRONG_TIME
 from stickysensors.ways import fewest_of_each
 
 MOST_FAULTS = 2
 LEAST_SIZE = 2
-GREATEST_SIZE = 8
 GREATEST_ERROR = 3
-GREATEST_READING = 1000
-LAST_TICK = 24
 MOST_PROPS = 4
 MOST_SENSORS = 8
 MOST_SENSORS_OF_PROP = 4
@@ -33,7 +31,7 @@ def add_prop(line, size):
 
 
 def add_sensor(line, number, error):
-    if not (0 <= number < len(line.props) and 0 <= error <= GREATEST_ERROR):
+    if not (line.has_prop(number) and 0 <= error <= GREATEST_ERROR):
         return [OUT_OF_RANGE]
     if line.begun:
         return [WRONG_TIME]
@@ -80,3 +78,21 @@ def next_tick(line, moves, readings):
     for sensor, reading in zip(line.sensors, readings):
         sensor.readings.append(reading)
     return [0, line.tick, 1 if fewest_of_each(line) else 0]
+
+
+def mend(line, number):
+    if not line.has_sensor(number):
+        return [OUT_OF_RANGE]
+    if not line.begun:
+        return [WRONG_TIME]
+    sensor = line.sensors[number]
+    sensor.first = line.tick + 1
+    sensor.readings = [NOTHING for reading in sensor.readings]
+    return [0]
+
+
+def allow(line, most):
+    if not 0 <= most <= MOST_FAULTS:
+        return [OUT_OF_RANGE]
+    line.most = most
+    return [0]

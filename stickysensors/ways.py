@@ -1,7 +1,7 @@
 """The ways of the props: those that can be, the fewest faults, the ways that are left."""
 
 from stickysensors.courses import anywhere, has_course, met
-from stickysensors.faults import FINE, faults_of, positions_told
+from stickysensors.faults import faults_of, how_many_faults, positions_told
 
 
 # What each of a prop's sensors is, and for each tick the positions with which that goes.
@@ -12,7 +12,15 @@ class Way:
 
 
 def faults_in(way):
-    return len([fault for fault in way.faults if fault != FINE])
+    return how_many_faults(way.faults)
+
+
+# For each tick the positions that go with what the prop's sensors read, if they have these faults.
+def allowed_by(prop, faults):
+    allowed = anywhere(prop)
+    for sensor, fault in zip(prop.sensors, faults):
+        allowed = met(allowed, positions_told(sensor, fault, prop.size))
+    return allowed
 
 
 # The ways with the prop's next sensor, of those that can be with at most so many faults.
@@ -52,11 +60,18 @@ def fewest_of_each(line):
     return fewest_in_each(possible_ways_of_each(line), line.most)
 
 
-# The ways of the prop of this number that are left, in order.
-def ways_left(line, number):
+# For each prop its ways that are left, in order; empty where nothing can be.
+def ways_left_of_each(line):
     possible = possible_ways_of_each(line)
     fewest = fewest_in_each(possible, line.most)
-    if not fewest:
-        return []
-    others = sum(fewest) - fewest[number]
-    return [way for way in possible[number] if faults_in(way) + others <= line.most]
+    left = []
+    for ways, count in zip(possible, fewest):
+        others = sum(fewest) - count
+        left.append([way for way in ways if faults_in(way) + others <= line.most])
+    return left
+
+
+# The ways of the prop of this number that are left, in order.
+def ways_left(line, number):
+    left = ways_left_of_each(line)
+    return left[number] if left else []

@@ -1,26 +1,34 @@
-"""The document's words as a search over all courses and all faults, told plainly and slowly."""
+"""The document's words as a search over all courses, all faults and all told moves, plainly and slowly."""
 
 from itertools import product
 
 from talk import HELD, LOOSE, NOTHING
 
 
-class Seen:
-    """What a line was told: sizes, (prop, error) of each sensor, moves and readings of each tick."""
+ANY_READING = frozenset(range(1001))
 
-    def __init__(self, most, sizes, sensors, moves, readings):
+
+class Seen:
+    """What a line was told: sizes, (prop, error) of each sensor, moves and readings of each tick, and
+    the first tick of each sensor (all 0 where none was mended)."""
+
+    def __init__(self, most, sizes, sensors, moves, readings, firsts=None):
         self.most = most
         self.sizes = sizes
         self.sensors = sensors
         self.moves = moves
         self.readings = readings
+        self.firsts = firsts or [0] * len(sensors)
         self.now = len(moves)
 
     def sensors_of(self, prop):
         return [number for number, sensor in enumerate(self.sensors) if sensor[0] == prop]
 
     def reading(self, sensor, tick):
-        return NOTHING if tick == 0 else self.readings[tick - 1][sensor]
+        """What counts of what the sensor read at the tick."""
+        if tick == 0 or tick < self.firsts[sensor]:
+            return NOTHING
+        return self.readings[tick - 1][sensor]
 
 
 def is_course(seen, prop, course):
@@ -38,9 +46,12 @@ def courses(seen, prop):
     return [course for course in every if is_course(seen, prop, course)]
 
 
+def read_from(seen, sensor, start):
+    return {seen.reading(sensor, tick) for tick in range(start, seen.now + 1)} - {NOTHING}
+
+
 def can_be_stuck(seen, sensor, start):
-    readings = {seen.reading(sensor, tick) for tick in range(start, seen.now + 1)}
-    return len(readings - {NOTHING}) <= 1
+    return seen.firsts[sensor] <= start <= seen.now and len(read_from(seen, sensor, start)) <= 1
 
 
 def agrees(seen, sensor, tick, position):
@@ -54,8 +65,9 @@ def goes_with(seen, sensor, fault, course):
             continue
         if fault == 0 and not agrees(seen, sensor, tick, course[tick]):
             return False
-        if fault in (1, 2, 3) and tick - fault >= 0 and not agrees(seen, sensor, tick, course[tick - fault]):
-            return False
+        if fault in (1, 2, 3) and tick - fault >= seen.firsts[sensor]:
+            if not agrees(seen, sensor, tick, course[tick - fault]):
+                return False
         if fault >= 100 and tick < fault - 100 and not agrees(seen, sensor, tick, course[tick]):
             return False
     return True
@@ -137,6 +149,65 @@ class Found:
         way = [way for way in self.left[prop] if at_fault(way) == fewest][0]
         course = min(self.possible[prop][way], key=lambda course: course[::-1])
         return [0] + list(way) + list(course)
+
+    def ways(self, prop):
+        return [0, len(self.left[prop])] + [fault for way in self.left[prop] for fault in way]
+
+    def sure(self):
+        if not self.something:
+            return [-4]
+        sensors = range(len(self.seen.sensors))
+        return [0] + [sensor for sensor in sensors if all(fault for way, fault, *rest in self.faults_left(sensor))]
+
+    def may_read(self, sensor, prop, way, fault, tick, told):
+        """The numbers that the sensor of this fault may read at a tick behind now; told has each such
+        tick's position."""
+        if fault >= 100:
+            return read_from(self.seen, sensor, fault - 100) or ANY_READING
+        if tick - fault < self.seen.firsts[sensor]:
+            return ANY_READING
+        places = {course[tick - fault] for course in self.possible[prop][way]} if tick - fault <= self.seen.now \
+            else {told[tick - fault]}
+        error = self.seen.sensors[sensor][1]
+        return {number for number in range(12) for place in places if abs(number - place) <= error}
+
+    def alike(self, prop, one, other, told):
+        for tick in told:
+            for sensor, fault, fault_there in zip(self.seen.sensors_of(prop), one, other):
+                here = self.may_read(sensor, prop, one, fault, tick, told)
+                if not here & self.may_read(sensor, prop, other, fault_there, tick, told):
+                    return False
+        return True
+
+    def settled(self, sensor, moves):
+        told = {self.seen.now + 1 + turn: place for turn, place in enumerate(moves)}
+        left = self.faults_left(sensor)
+        prop = self.seen.sensors[sensor][0]
+        fine = [way for way, fault, *rest in left if fault == 0]
+        faulty = [way for way, fault, *rest in left if fault != 0]
+        return not any(self.alike(prop, one, other, told) for one in fine for other in faulty)
+
+    def settles(self, sensor, moves):
+        return [0, int(self.settled(sensor, moves))]
+
+    def settle(self, sensor, most):
+        size = self.seen.sizes[self.seen.sensors[sensor][0]]
+        for count in range(most + 1):
+            for moves in product(range(size), repeat=count):
+                if self.settled(sensor, moves):
+                    return [0, 1] + list(moves)
+        return [0, 0]
+
+
+def checked(seen, prop, faults, course):
+    """The answer to a check of this row of faults and this row of positions."""
+    sensors = seen.sensors_of(prop)
+    goes = len(faults) == len(sensors) and len(course) == seen.now + 1
+    goes = goes and all(0 <= place < seen.sizes[prop] for place in course) and is_course(seen, prop, course)
+    for sensor, fault in zip(sensors, faults):
+        goes = goes and (fault < 100 or can_be_stuck(seen, sensor, fault - 100))
+        goes = goes and goes_with(seen, sensor, fault, course)
+    return [0, int(goes), at_fault(faults)]
 
 
 def explained(seen):

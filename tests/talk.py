@@ -3,6 +3,7 @@
 from stickysensors.desk import answers
 
 BEGIN, PROP, SENSOR, GO, TICK, WHERE, BLAME, SINCE, FEWEST, EXPLAIN = range(10)
+CHECK, SURE, VOTE, SETTLE, SETTLES, MEND, READS, STATE, WAYS, ALLOW = range(10, 20)
 
 HELD = -1
 LOOSE = -2
@@ -41,6 +42,8 @@ def talk(*calls):
     """The answer to each of the calls."""
     if not 1 <= len(calls) <= 120:
         raise AssertionError(f"a line has 1 to 120 calls, not {len(calls)}")
+    if len([call for call in calls if call[0] == SETTLE]) > 3:
+        raise AssertionError("a line has at most 3 calls that settle")
     found = parted(answers(one_list(calls)))
     if len(found) != len(calls):
         raise AssertionError(f"{len(found)} answers to {len(calls)} calls")

@@ -5,21 +5,24 @@ import io
 import subprocess
 import sys
 import unittest
+from itertools import product
 from pathlib import Path
 
 from stickysensors.desk import answers
 from talk import (
-    BEGIN, BLAME, EXPLAIN, FARTHEST, FEWEST, GO, HELD, LOOSE, NOTHING, PROP, SENSOR, SINCE, TICK, WHERE,
-    one_list, talk,
+    ALLOW, BEGIN, BLAME, CHECK, EXPLAIN, FARTHEST, FEWEST, GO, HELD, LOOSE, MEND, NOTHING, PROP, READS, SENSOR,
+    SETTLE, SETTLES, SINCE, STATE, SURE, TICK, VOTE, WAYS, WHERE, one_list, talk,
 )
-
-CHECK, SURE, VOTE, SETTLE, SETTLES, MEND, READS, STATE, WAYS, ALLOW = range(10, 20)
 
 LINE = [
     (BEGIN, 2), (PROP, 3), (PROP, 8), (SENSOR, 0, 0), (SENSOR, 1, 2), (SENSOR, 1, 0), (GO,),
     (TICK, [LOOSE, 4], [1, 6, 4]), (TICK, [HELD, LOOSE], [2, 5, 1000]), (TICK, [], []), (WHERE, 0, 2),
     (WHERE, 1, 1), (BLAME, 0), (BLAME, 2), (SINCE, 0), (SINCE, 2), (FEWEST,), (EXPLAIN, 0), (EXPLAIN, 1),
     (TICK, [0, 0], [NOTHING] * 3), (PROP, FARTHEST), (EXPLAIN, -FARTHEST), (FEWEST,),
+    (CHECK, 1, [3, 100], [0, 4, 5, 0]), (CHECK, 0, [], []), (CHECK, FARTHEST, [0], [0]), (SURE,), (VOTE, 1),
+    (TICK, [1, LOOSE], [1, 7, 9]), (VOTE, 1), (SETTLE, 0, 2), (SETTLE, 1, 1), (SETTLE, 2, FARTHEST), (SETTLES, 0, []),
+    (SETTLES, 2, [7, 0, 7, 0, 1, 2]), (SETTLES, 1, [-FARTHEST]), (READS, 2), (MEND, 2), (READS, 2), (STATE,), (WAYS, 0),
+    (WAYS, 1), (ALLOW, 0), (STATE,), (WAYS, 1), (ALLOW, -FARTHEST), (ALLOW, 1), (WAYS, 1), (CHECK, 1, [3, 0], [0] * 60),
 ]
 
 
@@ -47,15 +50,41 @@ class OneList(unittest.TestCase):
         self.assertEqual(len(calls), 120)
         self.assertEqual(talk(*calls)[-1], [0, 83 % 25 % 8])
 
-    def test_the_other_calls_are_read_in_the_form_told(self):
-        others = [
-            (CHECK, 0, [], []), (CHECK, 9, [0] * 60, [4]), (SURE,), (VOTE, 0), (SETTLE, 0, 1), (SETTLES, 0, []),
-            (SETTLES, 0, [1] * 6), (MEND, -1), (READS, 0), (STATE,), (WAYS, 0), (ALLOW, 5),
-        ]
-        for other in others:
-            with self.subTest(other=other):
-                self.assertEqual(talk(other, *LINE)[1:], talk(*LINE))
-                self.assertEqual(talk(*LINE, other)[:-1], talk(*LINE))
+    def test_120_calls_with_three_that_settle(self):
+        calls = [(BEGIN, 2)] + [(PROP, 8)] * 2 + [(SENSOR, prop, 0) for prop in (0, 1)] * 4 + [(GO,)]
+        for tick in range(1, 25):
+            calls.append((TICK, [LOOSE] * 2, [NOTHING] * 7 + [tick % 8]))
+        calls += [(SETTLE, 7, 2), (SETTLE, 0, 2), (SETTLE, 3, 2)]
+        asked = [(WAYS, 0), (WAYS, 1), (SURE,), (SINCE, 7), (BLAME, 7), (SETTLES, 7, [7, 0] * 3), (WHERE, 1, 24),
+                 (EXPLAIN, 1), (CHECK, 1, [0] * 4, [0] * 25), (VOTE, 1), (READS, 7), (STATE,), (FEWEST,)]
+        calls += (asked * 7)[:120 - len(calls)]
+        self.assertEqual(len(calls), 120)
+        found = talk(*calls)
+        self.assertEqual(found[36:39], [[0, 0]] * 3)
+        self.assertEqual([answer[:2] for answer in found[39:41]], [[0, 113], [0, 113]])
+        self.assertEqual(found[41:44], [[0], [0, 24], [0, 1, 1, 1, 1, 1]])
+
+    def test_120_calls_with_ways_that_are_told_apart(self):
+        # At tick 24 each sensor reads 0 as the prop goes there, fine or stuck from then on.
+        calls = [(BEGIN, 2)] + [(PROP, 8)] * 2 + [(SENSOR, 0, 0)] * 4 + [(SENSOR, 1, 0)] * 4 + [(GO,)]
+        calls += [(TICK, [place] * 2, [place] * 8) for place in [7] * 23 + [0]]
+        calls += [(SETTLE, 0, 2), (SETTLE, 6, 2), (SETTLE, 7, 1), (STATE,)]
+        calls += [(SETTLES, 6, [0] * 6), (WAYS, 1)] * 40
+        stuck = [row for row in product((0, 124), repeat=4) if sum(row) <= 2 * 124]
+        ways = [0, len(stuck)] + [fault for row in stuck for fault in row]
+        self.assertEqual(len(calls), 120)
+        self.assertEqual(talk(*calls)[36:], [[0, 1, 1]] * 3 + [[0, 2, 8, 1, 24, 2]] + [[0, 0], ways] * 40)
+
+    def test_the_form_of_each_answer(self):
+        calls = [0, 1, 1, 3, 2, 0, 0, 3, 4, 1, 1, 1, 2, 10, 0, 1, 100, 2, 0, 1, 11, 12, 0, 13, 0, 2, 14, 0, 0, 16, 0,
+                 15, 0, 16, 0, 17, 18, 0, 19, 0, 18, 0, 14, 0, 2, 1, 3, 13, 0, 0]
+        self.assertEqual(answers(calls), [
+            1, 0, 2, 0, 0, 2, 0, 0, 1, 0, 3, 0, 1, 1, 3, 0, 1, 1, 2, 0, 0, 4, 0, 2, 1, 1, 2, 0, 1, 2, 0, 1,
+            4, 0, 0, -1, 2, 1, 0, 2, 0, 2, 6, 0, 1, 1, 1, 1, 1, 6, 0, 4, 0, 1, 2, 3, 1, 0, 3, 0, 1, 0, 1, -1, 2, 0, 1])
+
+    def test_the_moves_that_settle_stand_behind_the_1(self):
+        calls = [0, 1, 1, 2, 2, 0, 0, 3, 4, 1, 1, 1, -1, 4, 1, 1, 1, -1, 4, 1, 0, 1, 0, 13, 0, 1, 13, 0, 2]
+        self.assertEqual(answers(calls)[-8:], [2, 0, 0, 4, 0, 1, 0, 1])
 
 
 class NothingElse(unittest.TestCase):
